@@ -10,6 +10,7 @@ SECOND = 3
 INSIDE = 4
 
 # What a sort is told by, ahead of a label.
+NUMBER = 0
 FUNCTION = 1
 PAIR = 2
 REFERENCE = 3
@@ -29,10 +30,13 @@ class Table:
 
     # Tells whether the fact is new: a round without a new one is the last.
     def put(self, place, sort):
-        if sort in self.facts[place]:
+        if self.has(place, sort):
             return False
         self.facts[place][sort] = True
         return True
+
+    def has(self, place, sort):
+        return sort in self.facts[place]
 
     def sorts_at(self, place):
         return [sort for sort in self.sorts if sort in self.facts[place]]
@@ -56,12 +60,17 @@ def list_places(nodes):
 
 
 def list_sorts(nodes):
-    sorts = [NUMBERS]
+    return [NUMBERS] + [sort for place, sort in list_own_needs(nodes) if sort != NUMBERS]
+
+
+# The facts that nodes need by themselves, node by node.
+def list_own_needs(nodes):
+    needs = []
     for label in range(len(nodes)):
         sort = own_sort(nodes, label)
-        if sort is not None and sort != NUMBERS:
-            sorts.append(sort)
-    return sorts
+        if sort is not None:
+            needs.append(((NODE, label), sort))
+    return needs
 
 
 def own_sort(nodes, label):
@@ -83,10 +92,8 @@ def labels_of_kind(nodes, kind):
 
 def least_table(nodes):
     table = Table(nodes)
-    for label in range(len(nodes)):
-        sort = own_sort(nodes, label)
-        if sort is not None:
-            table.put((NODE, label), sort)
+    for place, sort in list_own_needs(nodes):
+        table.put(place, sort)
     # What is put in may bring new ways, so each round asks for them again.
     while carry_all(table):
         pass
@@ -101,6 +108,26 @@ def carry_all(table):
                 if table.put(end, sort):
                     grown = True
     return grown
+
+
+# None, if the table is closed.
+def first_lacking(table):
+    for place, sort in list_own_needs(table.nodes):
+        if not table.has(place, sort):
+            return (place, sort)
+    for begin, end, maker in list_ways(table):
+        for sort in table.sorts_at(begin):
+            if not table.has(end, sort):
+                return (end, sort)
+    return None
+
+
+# The ways that the table asks for, in order, each with the label of the node that makes it.
+def list_ways(table):
+    ways = []
+    for label in range(len(table.nodes)):
+        ways.extend([(begin, end, label) for begin, end in ways_of(table, label)])
+    return ways
 
 
 def ways_of(table, label):

@@ -1,5 +1,7 @@
 """Reads a program's text: its nodes by their labels, and for each name its binder."""
 
+from leastflows.texts import signs_of
+
 LETTERS = "abcdefghijklmnopqrstuvwxyz"
 DIGITS = "0123456789"
 SINGLE_SIGNS = "() "
@@ -32,9 +34,10 @@ class NotProgram(Exception):
 
 
 class Node:
-    def __init__(self, kind, binder):
+    def __init__(self, kind, binder, number):
         self.kind = kind
         self.binder = binder
+        self.number = number
         self.parts = []
 
 
@@ -67,15 +70,12 @@ def read_program(text):
 
 
 def split_tokens(text):
-    known = {}
-    for sign in SINGLE_SIGNS + LETTERS + DIGITS:
-        known[ord(sign)] = sign
+    signs = signs_of(text, SINGLE_SIGNS + LETTERS + DIGITS)
+    if signs is None:
+        raise NotProgram()
     tokens = []
     word = ""
-    for byte in text:
-        if byte not in known:
-            raise NotProgram()
-        sign = known[byte]
+    for sign in signs:
         if sign in SINGLE_SIGNS:
             if word != "":
                 tokens.append(word)
@@ -103,18 +103,18 @@ def read_expression(reader, scope, around):
 
 def plain_node(token, scope):
     if is_number(token):
-        return Node("number", None)
+        return Node("number", None, int(token))
     if token == INPUT_NAME:
-        return Node("in", None)
+        return Node("in", None, None)
     if token not in scope:
         raise NotProgram()
-    return Node("name", scope[token])
+    return Node("name", scope[token], None)
 
 
 def read_brackets(reader, scope, around):
     label = len(reader.nodes)
     kind = read_kind(reader)
-    node = Node(kind, None)
+    node = Node(kind, None, None)
     reader.nodes.append(node)
     last_scope = scope
     if kind in BINDERS:

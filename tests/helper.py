@@ -3,7 +3,8 @@
 from leastflows.tables import answers
 
 NUMBERS = {
-    "program": 0, "node": 1, "name": 2, "parts": 3, "inside": 4, "arrows": 5, "callers": 6, "size": 12,
+    "program": 0, "node": 1, "name": 2, "parts": 3, "inside": 4, "arrows": 5, "callers": 6,
+    "table": 7, "check": 8, "why": 9, "run": 10, "spare": 11, "size": 12,
 }
 SORT_SIGNS = {0: "num", 1: "f", 2: "p", 3: "r"}
 
@@ -16,7 +17,7 @@ def as_numbers(calls):
     numbers = []
     for name, *handed in calls:
         numbers.append(NUMBERS[name])
-        if name == "program":
+        if name in ("program", "check"):
             text = as_bytes(handed[0])
             numbers += [len(text)] + text
         else:
@@ -89,3 +90,47 @@ def arrows(program):
     if len(pairs) != told[0]:
         raise AssertionError(f"arrows tells {told}")
     return pairs
+
+
+def table_text(program):
+    told = ask_of(program, ("table",))[0]
+    if told[0] != len(told) - 1:
+        raise AssertionError(f"table tells {told}")
+    return "".join(map(chr, told[1:]))
+
+
+def text_of(lines):
+    return "".join([f"{line}\n" for line in lines])
+
+
+def why_row(program, label, kind, maker):
+    """The ways of a row as words: where it begins, and which node makes it."""
+    told = ask_of(program, ("why", label, kind, maker))[0]
+    ways = [told[k:k + 3] for k in range(1, len(told), 3)]
+    if len(told) != 1 + 3 * told[0]:
+        raise AssertionError(f"why tells {told}")
+    return [f"{'nxabc'[way[0]]}{way[1]} by {way[2]}" for way in ways]
+
+
+def spare_facts(program, number):
+    told = ask_of(program, ("spare", number))[0]
+    facts = [told[k:k + 4] for k in range(1, len(told), 4)]
+    if len(told) != 1 + 4 * told[0] or any(fact[0] != 0 for fact in facts):
+        raise AssertionError(f"spare tells {told}")
+    return [f"n{fact[1]} {tell_sorts([1] + fact[2:])[0][0]}" for fact in facts]
+
+
+def run_facts(program, number):
+    """The facts that the run tells: those of the table's nodes that are not spare."""
+    facts = []
+    for line in table_lines(program):
+        place, *sorts = line.split(" ")
+        facts += [f"{place} {sort}" for sort in sorts if place[0] == "n"]
+    spare = spare_facts(program, number)
+    if [fact for fact in facts if fact in spare] != spare:
+        raise AssertionError(f"spare tells what the table has not, or out of order: {spare}")
+    told = [fact for fact in facts if fact not in spare]
+    counts = ask_of(program, ("run", number))[0]
+    if counts[:2] != [len(told)] * 2 or counts[2] != counts[3]:
+        raise AssertionError(f"run tells {counts}, spare leaves {told}")
+    return told
